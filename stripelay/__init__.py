@@ -1,0 +1,1 @@
+"""Stripelay: rows of stripes without an end, and cloths of two rows."""
