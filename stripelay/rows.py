@@ -30,6 +30,12 @@ def begun_at(threads, place):
     return threads[place:] + threads[:place]
 
 
+def told_from(threads, place, many):
+    """Threads told over and over, so many of them from a place on, however far it lies."""
+    size = len(threads)
+    return tuple([threads[(place + further) % size] for further in range(many)])
+
+
 def least_round(threads):
     """The least beginning that, told over and over, tells the threads told over and over."""
     size = 1

@@ -1,6 +1,6 @@
 """Whole numbers and spots."""
 
-from stripelay.errors import NoSpot
+from stripelay.errors import NoNumber, NoSpot
 
 BIG = 10 ** 30
 
@@ -19,3 +19,9 @@ def check_spot(thing):
     """Refuse what is no spot."""
     if not is_spot(thing):
         raise NoSpot(thing)
+
+
+def check_number(thing, least, most):
+    """Refuse what is no whole number from the least to the most."""
+    if not is_whole(thing) or not least <= thing <= most:
+        raise NoNumber("this number can't stand here")

@@ -1,6 +1,6 @@
 """Shades, stripes and threads."""
 
-from stripelay.errors import NoStripes, NoThreads
+from stripelay.errors import NoShade, NoStripes, NoThreads
 from stripelay.spots import is_whole
 
 MOST_THREADS = 240
@@ -12,6 +12,12 @@ def is_shade(thing):
     if not isinstance(thing, str) or not 1 <= len(thing) <= MOST_LETTERS:
         return False
     return all(["a" <= letter <= "z" for letter in thing])
+
+
+def check_shade(thing):
+    """Refuse what, of any kind, is no shade."""
+    if not is_shade(thing):
+        raise NoShade(thing)
 
 
 def is_stripe(thing):

@@ -2,12 +2,11 @@
 
 import unittest
 
-from things import NO_TEXTS
+from things import NO_TEXTS, WRONG_SHADES, WRONG_THREADS
 
 from stripelay.errors import NoStripes, NoThreads
 from stripelay.stripes import are_stripes, is_shade, stripes_of, threads_of
 
-WRONG_SHADES = ("", "B", "bB", "1", "b1", " ", "b ", " b", "abcd", "b-", "\n", "b\n", "a`", "a{", "\u00e9", "\u00df")
 # Each with the number that NoStripes tells of it.
 WRONG_STRIPES = (
     (None, None), (True, None), (False, None), (5, None), ("b8", None), (b"b8", None), ([], None),
@@ -24,10 +23,6 @@ WRONG_STRIPES = (
 RIGHT_STRIPES = (
     (("b", 1),), (("b", 8), ("w", 2)), (("abc", 240),), (("b", 239), ("w", 1)), (("b", 2), ("b", 3)),
     (("a", 1), ("z", 1), ("az", 1)), tuple([("b", 1)] * 240),
-)
-WRONG_THREADS = (
-    (), ["b"], "b", "bw", ("b", "B"), ("b", ""), ("b", None), ("b", 1), ("b", True), (("b",),), ("abcd",), ("b ",),
-    ("b",) * 241, ("b",) * 300, ("b",) * 240 + (None,), (["b"],), ({},),
 )
 
 
