@@ -39,9 +39,18 @@ def told_from(threads, place, many):
 def least_round(threads):
     """The least beginning that, told over and over, tells the threads told over and over."""
     size = 1
-    while begun_at(threads, size) != threads:
+    # Only what divides their number can be a round: long tellings needn't be compared at each size.
+    while len(threads) % size != 0 or begun_at(threads, size) != threads:
         size += 1
     return threads[:size]
+
+
+def short_round(threads):
+    """The least round of threads told over and over, refused where it is above 240."""
+    one_round = least_round(threads)
+    if len(one_round) > MOST_THREADS:
+        raise TooLong(len(one_round))
+    return one_round
 
 
 def least_beginning(threads):
@@ -57,9 +66,7 @@ class Row:
         if not is_manner(manner):
             raise NoManner("this is no manner")
         check_spot(start)
-        one_round = least_round(laid_out(threads, manner))
-        if len(one_round) > MOST_THREADS:
-            raise TooLong(len(one_round))
+        one_round = short_round(laid_out(threads, manner))
         # Begun at spot 0 and least: rows are alike just where these tuples are the same.
         self.one_round = begun_at(one_round, start % len(one_round))
 
@@ -101,3 +108,8 @@ class Row:
 
     def __repr__(self):
         return f"Row({stripes_of(self.one_round)!r})"
+
+
+def row_of_threads(threads):
+    """The row of threads told over and over, the first at spot 0; there may be more than 240."""
+    return Row(stripes_of(short_round(threads)))

@@ -65,6 +65,11 @@ class Amounts(unittest.TestCase):
             self.assertEqual(how_many(PLAIN, first, None, lambda shade: shade == "w"), 2)
         self.assertEqual((amount(PLAIN, "w"), how_many(PLAIN)), (2, 10))
 
+    def test_from_nought_where_first_is_not_told(self):
+        self.assertEqual((amount(PLAIN, "b", last=0), amount(PLAIN, "w", last=8), amount(PLAIN, "w", last=-1)), (1, 1, 0))
+        self.assertEqual((how_many(PLAIN, last=0), how_many(PLAIN, last=8), how_many(PLAIN, last=-1)), (1, 9, 0))
+        self.assertEqual(nth(PLAIN, "b", 1), 0)
+
     def test_a_shade_that_the_row_has_not(self):
         for shade in ("r", "bw", "bbb", "zzz"):
             self.assertEqual(amount(PLAIN, shade), 0)
