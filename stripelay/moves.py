@@ -18,9 +18,13 @@ def text_of(row):
     return str(row)
 
 
+def sorted_by(things, deed, falling):
+    """A new list of things by what a deed tells of them; where it tells the same those ahead stay ahead."""
+    if falling:
+        return sorted(things, key=lambda thing: deed(thing), reverse=True)
+    return sorted(things, key=lambda thing: deed(thing))
+
+
 def ordered(rows, key=None, falling=False):
     """A new list of the rows by a key, rising or falling; of the same keys those ahead stay ahead."""
-    deed = text_of if key is None else key
-    if falling:
-        return sorted(rows, key=lambda row: deed(row), reverse=True)
-    return sorted(rows, key=lambda row: deed(row))
+    return sorted_by(rows, text_of if key is None else key, falling)

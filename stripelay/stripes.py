@@ -7,11 +7,16 @@ MOST_THREADS = 240
 MOST_LETTERS = 3
 
 
-def is_shade(thing):
-    """True where the thing, of any kind, is a text of one to three small letters."""
-    if not isinstance(thing, str) or not 1 <= len(thing) <= MOST_LETTERS:
+def are_letters(thing, most):
+    """True where the thing, of any kind, is a text of one to so many small letters."""
+    if not isinstance(thing, str) or not 1 <= len(thing) <= most:
         return False
     return all(["a" <= letter <= "z" for letter in thing])
+
+
+def is_shade(thing):
+    """True where the thing, of any kind, is a text of one to three small letters."""
+    return are_letters(thing, MOST_LETTERS)
 
 
 def check_shade(thing):

@@ -24,7 +24,7 @@ BUILTIN_METHODS = (
 ).split()
 # Allowed in parts of the language only; the package does without them.
 UNUSED_NODES = (
-    ast.Global, ast.AsyncFunctionDef, ast.Await, ast.Import, ast.Div, ast.MatMult, ast.AnnAssign, ast.Delete, ast.With,
+    ast.Global, ast.AsyncFunctionDef, ast.Await, ast.Import, ast.Div, ast.MatMult, ast.AnnAssign, ast.With,
     ast.Yield, ast.YieldFrom, ast.GeneratorExp, ast.NamedExpr, ast.Nonlocal, ast.Match, ast.SetComp,
 )
 
@@ -35,6 +35,19 @@ def trees():
 
 def nodes(kind):
     return [(name, node) for name, tree in trees() for node in ast.walk(tree) if isinstance(node, kind)]
+
+
+def module_names(tree):
+    """The names that a file binds at module level, each as often as it does."""
+    bound = []
+    for node in tree.body:
+        if isinstance(node, (ast.FunctionDef, ast.ClassDef)):
+            bound.append(node.name)
+        if isinstance(node, ast.Assign):
+            bound.extend(target.id for target in node.targets)
+        if isinstance(node, ast.ImportFrom):
+            bound.extend(alias.asname or alias.name for alias in node.names)
+    return bound
 
 
 def own_methods():
@@ -73,6 +86,34 @@ class Words(unittest.TestCase):
                 if isinstance(node, ast.Constant):
                     self.assertNotIsInstance(node.value, (float, complex))
                     self.assertFalse(isinstance(node.value, str) and chr(37) in node.value, name)
+
+    def test_only_items_are_deleted(self):
+        for name, node in nodes(ast.Delete):
+            for target in node.targets:
+                self.assertIsInstance(target, ast.Subscript, (name, node.lineno))
+
+    def test_names_at_module_level_are_bound_once(self):
+        for name, tree in trees():
+            bound = module_names(tree)
+            self.assertEqual(len(bound), len(set(bound)), name)
+
+    def test_no_parameter_or_variable_has_the_name_of_one_at_module_level(self):
+        for name, tree in trees():
+            bound = set(module_names(tree))
+            for function in ast.walk(tree):
+                if isinstance(function, (ast.FunctionDef, ast.Lambda)):
+                    inner = [node for node in ast.walk(function) if node is not function]
+                    told = {node.arg for node in inner if isinstance(node, ast.arg)}
+                    told |= {node.id for node in inner if isinstance(node, ast.Name) and isinstance(node.ctx, ast.Store)}
+                    self.assertEqual(told & bound, set(), name)
+
+    def test_no_two_files_import_from_each_other(self):
+        above = {name: {node.module.removeprefix("stripelay.") + ".py" for node in ast.walk(tree) if isinstance(node, ast.ImportFrom)}
+                 for name, tree in trees()}
+        while above:
+            free = [name for name in above if not above[name] & set(above)]
+            self.assertTrue(free, sorted(above))
+            above = {name: above[name] for name in above if name not in free}
 
     def test_imports_name_the_file_that_defines(self):
         defined = {}
